@@ -1,0 +1,1 @@
+"""Spiderwires: diagrams of spiders and wires with exact tables."""
