@@ -27,6 +27,10 @@ INTERFACE = {
         "is_number": "value", "is_scalar": "value", "add": "x, y", "multiply": "x, y",
         "conjugated": "x", "scalar_value": "scalar",
     },
+    "diagrams.py": {"is_diagram": "value", "need_diagram": "diagram", "edge_parity": "diagram, edge"},
+    "steps.py": {"apply_step": "diagram, step", "walk": "diagram, steps"},
+    "forms.py": {"form": "diagram", "form_steps": "diagram", "leaders": "diagram"},
+    "tables.py": {"entry": "diagram, bits", "table": "diagram"},
 }
 
 
