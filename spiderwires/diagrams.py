@@ -8,6 +8,7 @@ COLORS = ("green", "red")
 MODES = ("crossed", "plain")
 MAX_LETTERS = 8
 PORT_LETTERS = "abcdefgh"
+LETTERS = "abcdefghijklmnopqrstuvwxyz"
 
 
 def is_one_of(value, words):
@@ -40,6 +41,19 @@ def port_node(port):
 def check_node(port):
     """Return the name of the check node of a port in a form."""
     return "c" + PORT_LETTERS[port]
+
+
+def spelled(number):
+    """Return the name of a node for a number; it has three letters, where the names in a form have two."""
+    return "x" + LETTERS[number // 26] + LETTERS[number % 26]
+
+
+def fresh_name(names):
+    """Return a name that is no key of names and that no node of a form can have."""
+    number = 0
+    while spelled(number) in names:
+        number += 1
+    return spelled(number)
 
 
 def is_node(value):

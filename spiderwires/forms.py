@@ -6,12 +6,10 @@ phase 0 or 2 and leads to heads only: then it says that the bits of these heads
 add up to 0 or 1.  Elimination brings these equations to the shape of a form.
 """
 
-from spiderwires.diagrams import check_node, need_diagram, need_small, port_node
+from spiderwires.diagrams import check_node, fresh_name, need_diagram, need_small, port_node
 from spiderwires.errors import ZeroTable
 from spiderwires.graphs import diagram_of, graph_of
 from spiderwires.steps import perform
-
-LETTERS = "abcdefghijklmnopqrstuvwxyz"
 
 
 class Reduction:
@@ -38,7 +36,7 @@ class Reduction:
 
         The parities are those of the new wires from near and to far.
         """
-        name = fresh_name(self.graph)
+        name = fresh_name(self.graph.phases)
         mode = parity_word(near_parity ^ far_parity)
         if near <= far:
             self.take("insert", near, far, mode, name, near_parity)
@@ -54,19 +52,6 @@ class Reduction:
 def parity_word(parity):
     """Return the mode of an edge of this parity that has no red end."""
     return "crossed" if parity == 1 else "plain"
-
-
-def spelled(number):
-    """Return the name of a node for a number; it has three letters, where the names in a form have two."""
-    return "x" + LETTERS[number // 26] + LETTERS[number % 26]
-
-
-def fresh_name(graph):
-    """Return a name that no node has and that no node of a form can have."""
-    number = 0
-    while spelled(number) in graph.phases:
-        number += 1
-    return spelled(number)
 
 
 def make_green(work):
@@ -205,10 +190,16 @@ def form_steps(diagram):
     return tuple(work.steps)
 
 
+def nonzero_form(diagram):
+    """Return the form with the table of a small diagram, which must not be zero."""
+    normal = form(diagram)
+    if normal[3] is None:
+        raise ZeroTable("all entries of the table are zero")
+    return normal
+
+
 def leaders(diagram):
     """Return the leaders of the form of a small diagram whose table is not zero."""
-    count, nodes, _, scalar = form(diagram)
-    if scalar is None:
-        raise ZeroTable("all entries of the table are zero")
+    count, nodes, _, _ = nonzero_form(diagram)
     names = [name for name, _, _ in nodes]
     return tuple([port for port in range(count) if check_node(port) not in names])

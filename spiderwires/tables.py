@@ -6,12 +6,15 @@ from spiderwires.exact import ZERO, scalar_value
 from spiderwires.forms import form
 
 
+def is_row(value, count):
+    """Tell whether any value is a tuple of this many bits."""
+    return isinstance(value, tuple) and len(value) == count and all([is_within(bit, 0, 1) for bit in value])
+
+
 def need_bits(diagram, bits):
     """Raise BadBits if the value is not a tuple of one bit for each port of a diagram."""
-    if not isinstance(bits, tuple) or len(bits) != diagram[0]:
+    if not is_row(bits, diagram[0]):
         raise BadBits("not a tuple of one bit for each port")
-    if not all([is_within(bit, 0, 1) for bit in bits]):
-        raise BadBits("an item is not a bit")
 
 
 def bit_at(bits, name):
@@ -61,8 +64,12 @@ def entry(diagram, bits):
     return form_entry(form(diagram), bits)
 
 
-def table(diagram):
-    """Return all pairs (bits, number) with a nonzero entry of a small diagram in ascending order."""
-    normal = form(diagram)
+def form_table(normal):
+    """Return all pairs (bits, number) with a nonzero entry of a form in ascending order."""
     pairs = [(bits, form_entry(normal, bits)) for bits in all_rows(normal[0])]
     return [(bits, number) for bits, number in pairs if number != ZERO]
+
+
+def table(diagram):
+    """Return all pairs (bits, number) with a nonzero entry of a small diagram in ascending order."""
+    return form_table(form(diagram))

@@ -5,6 +5,7 @@ Nothing here uses the program.
 
 import random
 import re
+from itertools import combinations
 
 WORDS = ("recolor", "fuse", "drop", "insert", "unloop", "cancel", "evaluate", "complement", "pivot", "rename", "clear")
 ZERO = (0, 0, 0, 0, 0)
@@ -50,6 +51,31 @@ def scaled(items, k, j):
         once, thrice = turned(items), turned(turned(turned(items)))
         items = [x - y for x, y in zip(once, thrice)]
     return lowest(items, -(k // 2))
+
+
+def plus(x, y):
+    """The sum of two numbers."""
+    k = max(x[4], y[4])
+    return lowest([a * 2 ** (k - x[4]) + b * 2 ** (k - y[4]) for a, b in zip(x[:4], y[:4])], k)
+
+
+def times(x, y):
+    """The product of two numbers."""
+    items, power = [0, 0, 0, 0], list(y[:4])
+    for a in x[:4]:
+        items = [item + a * b for item, b in zip(items, power)]
+        power = turned(power)
+    return lowest(items, x[4] + y[4])
+
+
+def bar(x):
+    """The complex conjugate: w ** n becomes w ** -n, which is w ** 7 taken n times."""
+    total, power = ZERO, [1, 0, 0, 0]
+    for a in x[:4]:
+        total = plus(total, lowest([a * item for item in power], x[4]))
+        for _ in range(7):
+            power = turned(power)
+    return total
 
 
 # Diagrams and their tables.
@@ -373,6 +399,26 @@ def steps_at(diagram, source):
     return found
 
 
+def slow_walk(diagram, steps):
+    """The diagram after all steps, or None if a step is not well-formed or not valid."""
+    for step in steps:
+        diagram = slow_step(diagram, step)
+        if diagram is None:
+            return None
+    return diagram
+
+
+def scramble(source, diagram, many):
+    """A diagram with the same table, after valid steps, and still small."""
+    for _ in range(many):
+        steps = steps_at(diagram, source)
+        after = slow_step(diagram, source.choice(steps))
+        if after is not None and len(after[1]) <= 24 and len(after[2]) <= 200 and (
+                after[3] is None or -500 <= after[3][0] <= 500):
+            diagram = after
+    return diagram
+
+
 # Drawing.
 
 def draw_scalar(source, power):
@@ -420,3 +466,16 @@ def draw_many(seed, many, ports=4, nodes=6, edges=9, power=6):
         else:
             found.append(draw_mixed(source, *sizes, power))
     return found
+
+
+def draw_form(source, count):
+    """A form other than the zero form, with any number of ports."""
+    heads = [letter for letter in "abcdefgh"[:count] if source.random() < 0.5]
+    others = [letter for letter in "abcdefgh"[:count] if letter not in heads]
+    nodes = [f"p{letter} green {source.randrange(4) if letter in heads else 0}" for letter in "abcdefgh"[:count]]
+    nodes += [f"c{letter} green {source.choice((0, 2))}" for letter in others]
+    edges = [f"{at} p{letter} plain" for at, letter in enumerate("abcdefgh"[:count])] + [f"c{at} p{at} crossed" for at in others]
+    free = [f"p{one} p{other} crossed" for one, other in combinations(heads, 2)]
+    free += [f"c{letter} p{head} crossed" for letter in others for head in heads if head < letter]
+    edges += [edge for edge in free if source.random() < 0.5]
+    return made(count, nodes, edges, (source.randint(-500, 500), source.randrange(8)))

@@ -1,4 +1,4 @@
-"""Point [0] for diagrams, steps, forms and tables: names of arguments, arguments and results that stay as they are."""
+"""Point [0] for all functions but those of exact.py: names of arguments, arguments and results that stay as they are."""
 
 import copy
 import inspect
@@ -6,8 +6,12 @@ import unittest
 
 from drawn import EMPTY, PAIR, RED, draw_many, zero_form
 
-from spiderwires import diagrams, forms, steps, tables
+from spiderwires import building, compare, diagrams, forms, programs, steps, symmetries, tables
 from spiderwires.errors import BadBits, BadDiagram, BadStep, NoEdge
+
+GREEN = (1, (("r", "green", 2),), (("0", "r", "crossed"),), (0, 0))
+BACK = (2, (("a", "green", 3),), (("0", "a", "plain"), ("1", "a", "plain")), (0, 0))
+THREE = (3, (("a", "green", 1), ("b", "red", 3)), (("0", "a", "plain"), ("1", "b", "plain"), ("2", "a", "crossed")), (0, 0))
 
 # Each function with the names of its parameters and values for them.
 CALLS = (
@@ -23,6 +27,25 @@ CALLS = (
     (forms.leaders, {"diagram": PAIR}),
     (tables.entry, {"diagram": PAIR, "bits": (1, 1)}),
     (tables.table, {"diagram": PAIR}),
+    (compare.compare, {"one": PAIR, "other": BACK}),
+    (compare.compare, {"one": RED, "other": forms.form(RED)}),
+    (compare.check_equal, {"one": RED, "other": GREEN, "derivations": ([("recolor", "r")], ())}),
+    (compare.check_different, {"one": PAIR, "other": BACK, "witness": ((1, 1), (0, 0, 1, 0, 0), (0, 0, -1, 0, 0))}),
+    (compare.check_different, {"one": PAIR, "other": BACK, "witness": [{}]}),
+    (compare.ratio, {"one": RED, "other": RED[:3] + ((1, 2),)}),
+    (building.tensor, {"one": RED, "other": PAIR}),
+    (building.join, {"diagram": THREE, "first": 2, "second": 0}),
+    (building.permute, {"diagram": THREE, "order": (1, 2, 0)}),
+    (building.conjugate, {"diagram": PAIR}),
+    (building.close_port, {"diagram": THREE, "port": 0, "bit": 1}),
+    (building.inner_product, {"one": PAIR, "other": BACK}),
+    (programs.program_diagram, {"width": 2, "program": [("add", 0, 1), ("phase", 1, 1)]}),
+    (programs.program_form, {"width": 2, "program": [("add", 0, 1), ("phase", 1, 1)]}),
+    (programs.same_program, {"width": 2, "program": [("add", 0, 1)], "second_program": [("add", 1, 0), ("swap", 0, 1)]}),
+    (symmetries.word_product, {"word": (0, "XZ"), "second_word": (1, "YY")}),
+    (symmetries.keeps, {"diagram": RED, "word": (2, "Z")}),
+    (symmetries.symmetries, {"diagram": PAIR}),
+    (symmetries.all_symmetries, {"diagram": PAIR}),
 )
 NOT_DIAGRAMS = (None, True, 1, "", [], {}, (), object(), (1, (), (), (0, 0)), list(RED), RED[:3], (True,) + RED[1:])
 
@@ -34,6 +57,11 @@ class Arguments(unittest.TestCase):
             wanted = call(*values.values())
             self.assertEqual(call(**values), wanted)
             self.assertEqual(call(**dict(reversed(values.items()))), wanted)
+
+    def test_the_names_are_not_exchanged(self):
+        self.assertNotEqual(building.tensor(RED, PAIR), building.tensor(PAIR, RED))
+        self.assertNotEqual(compare.ratio(RED, RED[:3] + ((1, 2),)), compare.ratio(RED[:3] + ((1, 2),), RED))
+        self.assertNotEqual(symmetries.word_product((0, "XZ"), (1, "YI")), symmetries.word_product((1, "YI"), (0, "XZ")))
 
     def test_they_are_not_modified(self):
         for call, values in CALLS:
@@ -63,7 +91,8 @@ class Arguments(unittest.TestCase):
 class Results(unittest.TestCase):
     def test_equal_calls_return_equal_results(self):
         for diagram in (*draw_many(701, 60, ports=5, nodes=8, edges=12), EMPTY, RED, PAIR, zero_form(8)):
-            for call in (diagrams.is_diagram, diagrams.need_diagram, forms.form, forms.form_steps, tables.table):
+            for call in (diagrams.is_diagram, diagrams.need_diagram, forms.form, forms.form_steps, tables.table,
+                         building.conjugate, lambda value: compare.compare(value, value)):
                 first = call(diagram)
                 self.assertEqual(call(copy.deepcopy(diagram)), first)
                 self.assertEqual(call(diagram), first)

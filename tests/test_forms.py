@@ -5,8 +5,8 @@ import random
 import unittest
 
 from drawn import (
-    EMPTY, NAMES, PAIR, RED, draw_many, draw_mixed, draw_simple, made, slow_entry, slow_step, slow_table, steps_at,
-    well_formed, zero_form,
+    EMPTY, NAMES, PAIR, RED, draw_form, draw_many, draw_mixed, draw_simple, made, scramble, slow_entry, slow_step, slow_table,
+    steps_at, well_formed, zero_form,
 )
 
 from spiderwires.errors import BadDiagram, ZeroTable
@@ -72,29 +72,6 @@ def all_forms(count, scalar=(0, 0)):
                 nodes = [f"{name} green {phase}" for name, phase in zip(names, chosen)]
                 for taken in itertools.product((False, True), repeat=len(free)):
                     yield made(count, nodes, needed + [edge for edge, used in zip(free, taken) if used], scalar)
-
-
-def draw_form(source, count):
-    """A form other than the zero form, with any number of ports."""
-    heads = [letter for letter in LETTERS[:count] if source.random() < 0.5]
-    others = [letter for letter in LETTERS[:count] if letter not in heads]
-    nodes = [f"p{letter} green {source.randrange(4) if letter in heads else 0}" for letter in LETTERS[:count]]
-    nodes += [f"c{letter} green {source.choice((0, 2))}" for letter in others]
-    edges = [f"{at} p{letter} plain" for at, letter in enumerate(LETTERS[:count])] + [f"c{at} p{at} crossed" for at in others]
-    free = [f"p{one} p{other} crossed" for one, other in itertools.combinations(heads, 2)]
-    free += [f"c{letter} p{head} crossed" for letter in others for head in heads if head < letter]
-    edges += [edge for edge in free if source.random() < 0.5]
-    return made(count, nodes, edges, (source.randint(-500, 500), source.randrange(8)))
-
-
-def scramble(source, diagram, many):
-    """A diagram with the same table, after valid steps, and still small."""
-    for _ in range(many):
-        steps = steps_at(diagram, source)
-        after = slow_step(diagram, source.choice(steps))
-        if after is not None and len(after[1]) <= 24 and (after[3] is None or -500 <= after[3][0] <= 500):
-            diagram = after
-    return diagram
 
 
 class Case(unittest.TestCase):

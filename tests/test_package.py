@@ -31,6 +31,21 @@ INTERFACE = {
     "steps.py": {"apply_step": "diagram, step", "walk": "diagram, steps"},
     "forms.py": {"form": "diagram", "form_steps": "diagram", "leaders": "diagram"},
     "tables.py": {"entry": "diagram, bits", "table": "diagram"},
+    "compare.py": {
+        "compare": "one, other", "check_equal": "one, other, derivations", "check_different": "one, other, witness",
+        "ratio": "one, other",
+    },
+    "building.py": {
+        "tensor": "one, other", "join": "diagram, first, second", "permute": "diagram, order", "conjugate": "diagram",
+        "close_port": "diagram, port, bit", "inner_product": "one, other",
+    },
+    "programs.py": {
+        "program_diagram": "width, program", "program_form": "width, program",
+        "same_program": "width, program, second_program",
+    },
+    "symmetries.py": {
+        "word_product": "word, second_word", "keeps": "diagram, word", "symmetries": "diagram", "all_symmetries": "diagram",
+    },
 }
 
 
