@@ -1,7 +1,7 @@
 """Checks of arguments that several files share: ports, bits, orders, and pairs of diagrams."""
 
 from spiderwires.diagrams import is_within, need_diagram, need_small
-from spiderwires.errors import BadBits, BadOrder, BadPort, PortMismatch
+from spiderwires.errors import BadBits, BadOrder, BadPort, BadPorts, PortMismatch
 from spiderwires.exact import is_whole
 
 
@@ -9,6 +9,14 @@ def need_port(diagram, port):
     """Raise BadPort if the value is not the index of a port of a diagram."""
     if not is_within(port, 0, diagram[0] - 1):
         raise BadPort("not the index of a port")
+
+
+def need_ports(diagram, ports):
+    """Raise BadPorts if the value is not an ascending tuple of indexes of ports, each at most once."""
+    if not isinstance(ports, tuple) or not all([is_within(port, 0, diagram[0] - 1) for port in ports]):
+        raise BadPorts("not a tuple of indexes of ports")
+    if not all([port < following for port, following in zip(ports, ports[1:])]):
+        raise BadPorts("not ascending, or with duplicates")
 
 
 def need_bit(bit):

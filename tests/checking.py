@@ -1,5 +1,6 @@
 """How the tests of the later files check errors, and values that many of their tests share."""
 
+import itertools
 import unittest
 
 from spiderwires.errors import Conflict, InvalidInput, OutOfRange
@@ -9,12 +10,23 @@ ATTRIBUTES = {
     "TooLarge": "limit",
 }
 
-# Values of every kind that are no diagram, port, bit, tuple of steps, word, program or text of more than one line.
+# Values of many kinds, none of them a diagram, a port, a word of [7] or a witness.
 ODD_VALUES = (
     None, True, False, -1, 99, 1.5, "", "word", b"", [], [[]], {}, {0: 1}, set(), frozenset(), (), ((),), (None, None),
     object(), len, range(2),
 )
+# Values that are no ascending tuple of indexes of two ports.
+NOT_PORTS = (
+    None, True, False, 0, 1, -1, 1.5, "", "0", "01", b"", b"0", [], [0], [0, 1], {}, {0: 1}, set(), {0}, frozenset((0,)), range(2),
+    object(), len, (2,), (0, 2), (-1,), (-1, 0), (0, 0), (1, 1), (1, 0), (0, 1, 1), (0, 0, 1), (True,), (False,), (False, True),
+    (0, True), (None,), ("0",), (0.0,), ((0,),), ([0],), (0, None), (10 ** 40,), (0, 1, 2),
+)
 NAMES = sorted(one + other for one in "abcdefgh" for other in "abcdefghij")
+
+
+def all_ports(count):
+    """All ascending tuples of indexes of ports without duplicates."""
+    return [ports for many in range(count + 1) for ports in itertools.combinations(range(count), many)]
 
 
 def sized(nodes, edges, scalar, count=0):

@@ -14,7 +14,7 @@ OUTSIDE = {
     "collections": {"defaultdict", "deque"},
 }
 
-# The files that have landed, with the functions and classes that the interface lists under each.
+# The files of the interface, with the functions and classes that it lists under each.
 INTERFACE = {
     "limits.py": {},
     "errors.py": {
@@ -46,6 +46,10 @@ INTERFACE = {
     "symmetries.py": {
         "word_product": "word, second_word", "keeps": "diagram, word", "symmetries": "diagram", "all_symmetries": "diagram",
     },
+    "cuts.py": {"cut_rank": "diagram, ports", "split": "diagram, ports"},
+    "outcomes.py": {"chance": "diagram, port, bit", "outcomes": "diagram, ports"},
+    "texts.py": {"diagram_text": "diagram", "steps_text": "steps"},
+    "reading.py": {"read_diagram": "text", "read_steps": "text"},
 }
 
 
