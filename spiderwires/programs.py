@@ -45,7 +45,9 @@ class Wiring:
 
     def link(self, wire, other):
         """Link two wires by an odd edge, whose factor 1 / sqrt(2) the scalar makes up for."""
-        self.edges.append(green_edge(self.put(wire, 0), self.put(other, 0), 1))
+        near = self.put(wire, 0)
+        far = self.put(other, 0)
+        self.edges.append(green_edge(near, far, 1))
         self.scalar = (self.scalar[0] + 1, self.scalar[1])
 
     def swap(self, wire, other):

@@ -109,7 +109,7 @@ def read_diagram(text):
 def step_of(words):
     """Return the step of the words of a line, which need not be well-formed."""
     if words[0] == "insert" and words[-1] in ("0", "1"):
-        return (*words[:-1], int(words[-1]))
+        return tuple(words[:-1] + [int(words[-1])])
     return tuple(words)
 
 

@@ -306,6 +306,7 @@ class Wrong(Case):
             ([("add", 0, 1)] * 12, 24), ([("add", 1, 0)] * 12 + [("phase", 0, 1)], 25), ([("phase", 0, 1)] * 22 + [("link", 1, 0)], 24),
             ([("phase", 0, 1)] * 23 + [("add", 1, 0)], 25), ([("phase", 0, 1)] * 24 + [("cross", 1), ("swap", 0, 1)] * 38, 24),
             ([("link", 0, 1), ("add", 0, 1)] * 6 + [("phase", 0, 0)], 25), ([("link", 0, 1)] * 100, 200), ([("phase", 1, 0)] * 100, 100),
+            ([("cross", 0)] * 40 + [("phase", 0, 1)] * 25, 25), ([("swap", 0, 1)] * 40 + [("add", 0, 1)] * 13, 26),
         ):
             self.assertEqual(nodes_of(program), cost)
             for kind in (tuple, list):

@@ -100,7 +100,8 @@ class Words(Case):
                 self.fails(BadWord, None, word_product, value, other)
             for one in ((0, "X"), (3, "XYZIXYZI"), (0, "")):
                 self.fails(BadWord, None, word_product, one, value)
-        for one, other in (("", "X"), ("X", ""), ("XX", "X"), ("XYZIXYZI", "XYZIXYZ"), ("I", "II")):
+        for one, other in (("", "X"), ("X", ""), ("XX", "X"), ("XYZIXYZI", "XYZIXYZ"), ("I", "II"), ("I" * 9, "I" * 9),
+                           ("XYZIXYZIX", "XYZIXYZIX")):
             self.fails(BadWord, None, word_product, (0, one), (0, other))
         self.assertEqual(word_product((1, "XYZIXYZI"), (1, "XYZIXYZI")), (2, "IIIIIIII"))
 
