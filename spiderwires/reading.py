@@ -8,7 +8,13 @@ from spiderwires.steps import is_step
 
 def spelled_integer(word, low, high):
     """Return the integer from low to high that a word spells, or None; each has one spelling."""
-    return {str(value): value for value in range(low, high + 1)}.get(word)
+    # A longer word is out of range, however it goes on: it is not worth converting.
+    if len(word) > max(len(str(low)), len(str(high))) or not word.removeprefix("-").isdecimal():
+        return None
+    value = int(word)
+    if value < low or value > high or str(value) != word:
+        return None
+    return value
 
 
 class Draft:
